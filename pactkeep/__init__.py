@@ -1,0 +1,1 @@
+"""Pactkeep: agreements kept by the same few who meet again and again."""

@@ -1,7 +1,7 @@
-"""A check of the package's files against the rules of LANGUAGE.md that can be seen in one file's text.
+"""A check of the package's files against those rules of LANGUAGE.md that a look at the parts of a file can see.
 
-It is narrower than the rules in places, and does not see all of them: L15, L18, L19, L22 to L24, L26 and
-L28 are looked at by the reader.
+In places it is narrower than the rules. It sees nothing of L11, L13, L18, L19, L22 to L24, L26 and L28, and only
+a part of L5, L7, L15 and L27: these stay with the reader.
 """
 
 import ast

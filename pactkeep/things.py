@@ -41,6 +41,18 @@ def rows_of(deeds):
     return tuple(rows)
 
 
+def place_of(row, deeds):
+    # Rising rows are counted as numbers are whose digits are the deeds.
+    place = 0
+    for deed, many in zip(row, deeds):
+        place = place * many + deed
+    return place
+
+
+def with_deed(row, hand, deed):
+    return row[:hand] + (deed,) + row[hand + 1:]
+
+
 def is_deeds(thing):
     return is_tuple_of(thing, FEWEST_HANDS, MOST_HANDS) and are_between(thing, 1, MOST_DEEDS)
 

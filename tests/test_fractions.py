@@ -2,7 +2,7 @@ import fractions
 import unittest
 
 from pactkeep.fractions import divided, is_fraction, is_less, is_whole, lowest, minus, plus, times
-from tests.wrongs import LONE_THINGS, replaced, wrong_kinds, wrong_lengths
+from tests.samples import LONE_THINGS, replaced, wrong_kinds, wrong_lengths
 
 SOME = [lowest(upper, lower) for upper in range(-5, 6) for lower in range(1, 6)]
 

@@ -1,7 +1,7 @@
 """A check of the package's files against those rules of LANGUAGE.md that a look at the parts of a file can see.
 
-In places it is narrower than the rules. It sees nothing of L11, L13, L18, L19, L22 to L24, L26 and L28, and only
-a part of L5, L7, L15 and L27: these stay with the reader.
+In places it is narrower than the rules. It sees nothing of L11, L13, L18, L19, L22, L24, L26 and L28, and only
+a part of L5, L7, L15, L23 and L27: these stay with the reader.
 """
 
 import ast
@@ -42,6 +42,8 @@ WORDS = re.compile(
 FILE_NAME = re.compile(r"[a-z][a-z0-9_]*\.py|__init__\.py")
 NO_FILE_NAME = re.compile(r"(tests?|testing|test_.*|site|conftest|sitecustomize|usercustomize)\.py")
 NAME = re.compile(r"[A-Za-z][A-Za-z0-9_]*")
+WALKED = ("zip", "enumerate", "reversed", "range", "items", "keys", "values")
+WALKERS = ("list", "tuple", "dict", "sorted", "sum", "any", "all", "enumerate", "zip", "min", "max", "join")
 SPECIAL_METHODS = ("__init__", "__eq__", "__repr__", "__str__", "__len__")
 BAD = (
     "import sys\n", "from math import gcd\n", "from .errors import NoText\n", "from pactkeep.errors import *\n",
@@ -54,6 +56,8 @@ BAD = (
     "def f(a):\n    return map(f, a)\n", "def f(a):\n    return getattr(a, 'b')\n", "def f(a):\n    return 2 ** a\n",
     "def f(a):\n    with a:\n        pass\n", "def f(a):\n    return (a := 1)\n", "def f(a):\n    return [*a]\n",
     "def f(a):\n    for b in a:\n        pass\n    else:\n        pass\n", "def f(a: int):\n    pass\n",
+    "def f(a):\n    b = range(a)\n    return b\n", "def f(a):\n    return a.items()\n",
+    "def f(a):\n    return max(1, zip(a, a))\n", "def f(a):\n    return a + reversed(a)\n",
     "class A:\n    b = 1\n", "class A(ValueError, KeyError):\n    pass\n", "# a type\n", "# \u00e9\n", "#\t\n",
     "def f():\n" + "    pass\n" * 40, "# " + "a" * 120 + "\n", "#\n" * 401,
 )
@@ -217,6 +221,26 @@ def node_faults(node, own):
     return faults
 
 
+def called(node):
+    if not isinstance(node, ast.Call):
+        return None
+    return node.func.id if isinstance(node.func, ast.Name) else getattr(node.func, "attr", None)
+
+
+def walk_faults(tree):
+    """Only the walks that stand where they may: behind an in, or straight within a call that walks."""
+    walked = []
+    for node in ast.walk(tree):
+        if isinstance(node, (ast.For, ast.comprehension)):
+            walked.append(node.iter)
+        if called(node) in WALKERS and (called(node) not in ("min", "max") or len(node.args) == 1):
+            walked += node.args if called(node) == "zip" else node.args[:1]
+    return [
+        f"L23: line {node.lineno}" for node in ast.walk(tree)
+        if called(node) in WALKED and not any(node is other for other in walked)
+    ]
+
+
 def own_attributes(tree):
     """The methods and values of the file's own classes."""
     own = []
@@ -230,7 +254,7 @@ def own_attributes(tree):
 
 def faults_of(name, text, package, own):
     tree = ast.parse(text)
-    faults = file_name_faults(name) + text_faults(text) + top_faults(tree, package)
+    faults = file_name_faults(name) + text_faults(text) + top_faults(tree, package) + walk_faults(tree)
     for node in ast.walk(tree):
         for fault in node_faults(node, own):
             faults.append(f"{fault}: line {node.lineno}")

@@ -3,28 +3,16 @@ import itertools
 import math
 import unittest
 
-from pactkeep.things import all_rows, is_meeting, is_patience, is_plan
-from tests.wrongs import LONE_THINGS, all_lists, replaced, wrong_kinds, wrong_lengths
-
-DILEMMA = ((2, 2), ((3, 3), (0, 5), (5, 0), (1, 1)))
-SMALL = ((1, 1), ((0, 0),))
-THREE = ((2, 1, 3), ((1, 2, 3), (0, 0, 0), (-1, 4, 7), (9, -9, 5), (2, 2, 2), (-4, 0, 1)))
-GRIM = (((0, 0), (0, 1, 1, 1)), ((1, 1), (1, 1, 1, 1)))
-OF_THREE = (((1, 0, 2), (0, 1, 1, 0, 1, 0)), ((0, 0, 0), (1, 1, 0, 0, 1, 1)))
-ALL_DEEDS = list(itertools.product((1, 2, 3), repeat=2)) + list(itertools.product((1, 2, 3), repeat=3))
-
-
-def meeting_of(deeds, number=0):
-    return (tuple(deeds), ((number,) * len(deeds),) * math.prod(deeds))
+from pactkeep.things import all_rows, is_meeting, is_patience, is_plan, place_of, with_deed
+from tests.samples import (
+    ALL_DEEDS, DILEMMA, GRIM, LONE_THINGS, OF_THREE, SMALL, THREE, all_lists, meeting_of, put, replaced,
+    rows_by_product, wrong_kinds, wrong_lengths,
+)
 
 
 def plan_of(states, row=(0, 0), many=4):
     """Each state leads to the last one."""
     return tuple((row, (states - 1,) * many) for _ in range(states))
-
-
-def put(thing, place, part):
-    return thing[:place] + (part,) + thing[place + 1:]
 
 
 class ThingsTest(unittest.TestCase):
@@ -192,13 +180,13 @@ class RowsTest(ThingsTest):
 
     def test_all_numbers_of_deeds(self):
         for deeds in ALL_DEEDS:
-            rows = tuple(itertools.product(*[range(many) for many in deeds]))
+            rows = rows_by_product(deeds)
             self.assertEqual(all_rows(meeting_of(deeds)), rows)
             self.assertEqual(rows, tuple(sorted(rows)))
 
     def test_numbers_somewhat_beyond_are_not_refused(self):
         for deeds in ((4, 1), (5, 4, 2), (1, 2, 1, 2), (3,)):
-            rows = tuple(itertools.product(*[range(many) for many in deeds]))
+            rows = rows_by_product(deeds)
             self.assertEqual(all_rows(meeting_of(deeds, 12)), rows)
 
     def test_kinds_of_what_is_told(self):
@@ -209,6 +197,19 @@ class RowsTest(ThingsTest):
                 self.assertIs(row.__class__, tuple)
                 for deed in row:
                     self.assertIs(deed.__class__, int)
+
+
+class RowTest(ThingsTest):
+    def test_places_are_those_of_rising_rows(self):
+        for deeds in ALL_DEEDS + [(4, 2), (1, 5, 2), (2, 2, 2, 2)]:
+            for place, row in enumerate(rows_by_product(deeds)):
+                self.assertEqual(place_of(row, deeds), place, (row, deeds))
+
+    def test_with_another_deed(self):
+        self.assertEqual(with_deed((0, 1, 2), 0, 2), (2, 1, 2))
+        self.assertEqual(with_deed((0, 1, 2), 1, 0), (0, 0, 2))
+        self.assertEqual(with_deed((0, 1, 2), 2, 2), (0, 1, 2))
+        self.assertEqual(with_deed((0, 1), 1, 0), (0, 0))
 
 
 class UnchangedTest(ThingsTest):

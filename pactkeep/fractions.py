@@ -31,22 +31,6 @@ def lowest(upper, lower):
     return (upper // divisor, lower // divisor)
 
 
-def plus(one, other):
-    return lowest(one[0] * other[1] + other[0] * one[1], one[1] * other[1])
-
-
-def minus(one, other):
-    return lowest(one[0] * other[1] - other[0] * one[1], one[1] * other[1])
-
-
-def times(one, other):
-    return lowest(one[0] * other[0], one[1] * other[1])
-
-
-def divided(one, other):
-    return lowest(one[0] * other[1], one[1] * other[0])
-
-
 def is_less(one, other):
     # Both lowers are above 0, so that multiplying by them keeps the order.
     return one[0] * other[1] < other[0] * one[1]

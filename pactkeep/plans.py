@@ -51,13 +51,16 @@ def pays_of(meeting, rows, hand):
 
 
 def worth_of_pays(before, again, patience):
-    # Made lowest only at the end: long rows would else take long.
-    upper = weighed(again, patience)
-    lower = weighed([1] * len(again), patience)
+    worth = (weighed(again, patience), weighed([1] * len(again), patience))
     for pay in reversed(before):
-        upper = (patience[1] - patience[0]) * pay * lower + patience[0] * upper
-        lower = patience[1] * lower
-    return lowest(upper, lower)
+        worth = now_and_later(pay, worth, patience)
+    return lowest(worth[0], worth[1])
+
+
+def now_and_later(pay, later, patience):
+    # The pair is not made lowest here: long rows would else take long, and is_less takes it as it is.
+    upper = (patience[1] - patience[0]) * pay * later[1] + patience[0] * later[0]
+    return (upper, patience[1] * later[1])
 
 
 def weighed(pays, patience):

@@ -53,6 +53,13 @@ def with_deed(row, hand, deed):
     return row[:hand] + (deed,) + row[hand + 1:]
 
 
+def strays_from(row, deeds):
+    strays = []
+    for hand, many in enumerate(deeds):
+        strays = strays + [(hand, deed) for deed in range(many) if deed != row[hand]]
+    return strays
+
+
 def is_deeds(thing):
     return is_tuple_of(thing, FEWEST_HANDS, MOST_HANDS) and are_between(thing, 1, MOST_DEEDS)
 

@@ -3,20 +3,10 @@ import unittest
 
 from pactkeep.once import best_deeds, calm, held_to, paid, sure
 from tests.samples import (
-    ALL_DEEDS, DILEMMA, SMALL, THREE, all_kinds_told, meeting_of, put, rows_by_product, spread_meeting,
+    ALL_DEEDS, DILEMMA, PENNIES, PENNIES_OF_THREE, SMALL, THREE, TIES, TOGETHER, all_kinds_told, meeting_of, put,
+    rows_by_product, spread_meeting,
 )
 
-PENNIES = ((2, 2), ((1, -1), (-1, 1), (-1, 1), (1, -1)))
-# Pennies of hands 0 and 2, with a hand between that has one deed.
-PENNIES_OF_THREE = ((2, 1, 2), ((1, 5, -1), (-1, 6, 1), (-1, 7, 1), (1, 8, -1)))
-TIES = ((3, 2), ((4, 1), (0, 1), (2, 3), (5, 0), (4, 2), (5, 2)))
-# Hand 0 can be held low only by both others together.
-TOGETHER = (
-    (2, 2, 2), (
-        (6, 0, 1), (5, 0, 1), (7, 3, 1), (-2, 3, 1),
-        (8, 1, 0), (4, 1, 0), (3, 1, 2), (-3, 1, 2),
-    ),
-)
 SOME = [DILEMMA, SMALL, THREE, PENNIES, PENNIES_OF_THREE, TIES, TOGETHER]
 # Pays from -9 to 9, and few different ones, so that there are many ties.
 SPREAD = [spread_meeting(deeds, seed) for deeds in ALL_DEEDS for seed in range(3)]

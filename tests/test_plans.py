@@ -5,64 +5,9 @@ from fractions import Fraction
 from pactkeep.fractions import is_fraction
 from pactkeep.plans import played, worth_of, worths
 from tests.samples import (
-    ALL_DEEDS, DILEMMA, GRIM, OF_THREE, SMALL, THREE, all_kinds_told, meeting_of, put, rows_by_product, spread,
-    spread_meeting, spread_plan,
+    ALL_DEEDS, AWAY, DILEMMA, GRIM, LOSSES, MANY_PLANS, OF_THREE, PATIENCES, THREE, TIT, TURNS, all_kinds_told, behind,
+    chain, meeting_of, number_of_row, pays_in, put, ring, rows_by_product, spread_meeting, spread_plan, spread_rows,
 )
-
-PATIENCES = ((1, 2), (1, 30), (29, 30), (2, 3), (13, 27), (28, 29))
-TURNS = (((0, 1), (1, 1, 1, 1)), ((1, 0), (0, 0, 0, 0)))
-# Each deed is answered by the other hand's last one.
-TIT = (
-    ((0, 0), (0, 1, 2, 3)), ((1, 0), (0, 1, 2, 3)), ((0, 1), (0, 1, 2, 3)), ((1, 1), (0, 1, 2, 3)),
-)
-# State 0 is left for good, and the states behind it go round without it.
-AWAY = (((1, 0), (2, 2, 1, 2)), ((0, 1), (0, 2, 0, 0)), ((1, 1), (0, 0, 0, 1)))
-LOSSES = ((2, 2), ((-3, -1), (-9, 2), (2, -9), (-7, -8)))
-
-
-def ring(rows, deeds):
-    """A plan that goes through the rows and begins again, whatever was done."""
-    many = len(rows_by_product(deeds))
-    return tuple((row, ((place + 1) % len(rows),) * many) for place, row in enumerate(rows))
-
-
-def chain(rows, deeds):
-    """A plan that goes through the rows and stays at the last, whatever was done."""
-    many = len(rows_by_product(deeds))
-    return tuple((row, (min(place + 1, len(rows) - 1),) * many) for place, row in enumerate(rows))
-
-
-def number_of_row(meeting, row):
-    return rows_by_product(meeting[0]).index(row)
-
-
-def behind(meeting, plan, state):
-    return plan[state][1][number_of_row(meeting, plan[state][0])]
-
-
-def pays_in(meeting, row):
-    return meeting[1][number_of_row(meeting, row)]
-
-
-def spread_rows(meeting, many, seed):
-    rows = rows_by_product(meeting[0])
-    return tuple(rows[number] for number in spread(seed, many, 0, len(rows) - 1))
-
-
-def many_plans():
-    """Meetings with plans of 1 state, of 8, and of more."""
-    pairs = [(DILEMMA, GRIM), (DILEMMA, TURNS), (DILEMMA, TIT), (DILEMMA, AWAY), (LOSSES, AWAY), (THREE, OF_THREE)]
-    pairs.append((SMALL, (((0, 0), (0,)),)))
-    for seed, deeds in enumerate(ALL_DEEDS):
-        meeting = spread_meeting(deeds, seed)
-        for states in (1, 2, 3, 8, 9, 13):
-            pairs.append((meeting, spread_plan(meeting, states, seed + states)))
-        pairs.append((meeting, ring(spread_rows(meeting, 8, seed), deeds)))
-        pairs.append((meeting, chain(spread_rows(meeting, 11, seed), deeds)))
-    return pairs
-
-
-MANY_PLANS = many_plans()
 
 
 class PlansTest(unittest.TestCase):
